@@ -1,1 +1,1 @@
-"""Programs of rules over a bag of facts: reading, checking, writing and matching them."""
+"""Programs of rules over a bag of facts: reading, checking, writing, matching and using them."""

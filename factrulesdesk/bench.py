@@ -1,16 +1,27 @@
 """Whole lists of calls and their answers."""
 
 from factrulesdesk.desk import Desk, counted
-from factrulesdesk.refusals import FaultyProgram, NoPattern, NothingHeld, NoValue, TextTooLong, UnknownCall
+from factrulesdesk.refusals import (
+    FaultyProgram, NoExpression, NoFacts, NoPattern, NoRule, NoTest, NothingHeld, NoValue, NoWord, TextTooLong,
+    UnknownCall, WrongFactCount,
+)
 
 CHECK = 0
 LOAD = 1
 FORM = 2
 VALUE = 3
 FIT = 4
+WORK = 5
+TEST = 6
+USE = 7
+RULE = 8
+LEVEL = 9
+
+# How many whole numbers stand before a call's rows, by its number; the others have none.
+WHOLE_COUNTS = {7: 1, 8: 1}
 
 # How many rows each call has, by its number.
-ROW_COUNTS = {0: 1, 1: 1, 2: 0, 3: 1, 4: 2}
+ROW_COUNTS = {0: 1, 1: 1, 2: 0, 3: 1, 4: 2, 5: 3, 6: 3, 7: 1, 8: 0, 9: 1}
 
 
 def rows_from(calls, place, how_many):
@@ -24,7 +35,7 @@ def rows_from(calls, place, how_many):
     return rows
 
 
-def call_on(desk, number, rows):
+def call_on(desk, number, wholes, rows):
     if number == CHECK:
         return desk.check(rows[0])
     if number == LOAD:
@@ -35,13 +46,23 @@ def call_on(desk, number, rows):
         return desk.value(rows[0])
     if number == FIT:
         return desk.fit(rows[0], rows[1])
+    if number == WORK:
+        return desk.work(rows[0], rows[1], rows[2])
+    if number == TEST:
+        return desk.test(rows[0], rows[1], rows[2])
+    if number == USE:
+        return desk.use(wholes[0], rows[0])
+    if number == RULE:
+        return desk.rule(wholes[0])
+    if number == LEVEL:
+        return desk.level(rows[0])
     raise UnknownCall("no call has this number")
 
 
-def answer_of(desk, number, rows):
+def answer_of(desk, number, wholes, rows):
     """Give the call's answer; a refusal is its number alone."""
     try:
-        return call_on(desk, number, rows)
+        return call_on(desk, number, wholes, rows)
     except TextTooLong:
         return [-1]
     except FaultyProgram:
@@ -52,6 +73,18 @@ def answer_of(desk, number, rows):
         return [-4]
     except NoPattern:
         return [-5]
+    except NoExpression:
+        return [-6]
+    except NoTest:
+        return [-7]
+    except NoRule:
+        return [-8]
+    except NoFacts:
+        return [-9]
+    except WrongFactCount:
+        return [-10]
+    except NoWord:
+        return [-11]
 
 
 def answers(calls):
@@ -61,7 +94,10 @@ def answers(calls):
     place = 0
     while place < len(calls):
         number = calls[place]
-        rows = rows_from(calls, place + 1, ROW_COUNTS.get(number, 0))
-        given.extend(counted(answer_of(desk, number, rows)))
-        place += 1 + sum([1 + len(row) for row in rows])
+        place += 1
+        wholes = calls[place:place + WHOLE_COUNTS.get(number, 0)]
+        place += len(wholes)
+        rows = rows_from(calls, place, ROW_COUNTS.get(number, 0))
+        place += sum([1 + len(row) for row in rows])
+        given.extend(counted(answer_of(desk, number, wholes, rows)))
     return given

@@ -49,3 +49,12 @@ def match(pattern, value, binding):
     if isinstance(pattern, Number):
         return same_values(pattern, value)
     return match_term(pattern, value, binding)
+
+
+def binding_from(patterns, values):
+    """Match as many patterns with values one after the other, and give the binding, or None if they don't match."""
+    binding = {}
+    for pattern, value in zip(patterns, values):
+        if not match(pattern, value, binding):
+            return None
+    return binding

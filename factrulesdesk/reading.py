@@ -1,9 +1,9 @@
 """Reading texts, from the left, by one token ahead."""
 
-from factrulesdesk.refusals import NoPattern, NoValue, TextFault
+from factrulesdesk.refusals import NoExpression, NoFacts, NoPattern, NoTest, NoValue, NoWord, TextFault
 from factrulesdesk.shapes import (
     LevelItem, Number, Placed, Product, Program, Rule, Signed, Sum, Term, Test, Unknown,
-    is_small_enough, unknowns_in,
+    is_fact, is_value,
 )
 from factrulesdesk.tokens import cut
 
@@ -159,15 +159,21 @@ def read_placed(reader, read_one):
     return Placed(place, read_one(reader))
 
 
+def read_listed(reader, read_one):
+    """Read one or more with commas between neighbours."""
+    listed = [read_placed(reader, read_one)]
+    while reader.sees(","):
+        reader.advance()
+        listed.append(read_placed(reader, read_one))
+    return listed
+
+
 def read_part(reader, kind, read_one):
     """Read a rule's part of this kind, or nothing where it is left out."""
     if not reader.sees(kind):
         return []
     reader.advance()
-    listed = [read_placed(reader, read_one)]
-    while reader.sees(","):
-        reader.advance()
-        listed.append(read_placed(reader, read_one))
+    listed = read_listed(reader, read_one)
     reader.expect(";")
     return listed
 
@@ -233,9 +239,52 @@ def pattern_of(text):
 def value_of(text):
     """Give the value that the text is, or raise NoValue."""
     try:
-        value = read_whole(text, read_pattern)
+        pattern = read_whole(text, read_pattern)
     except TextFault:
         raise NoValue("no value's text") from None
-    if unknowns_in(value) or not is_small_enough(value):
+    if not is_value(pattern):
         raise NoValue("no value")
-    return value
+    return pattern
+
+
+def expression_of(text):
+    """Give the expression that the text is, or raise NoExpression."""
+    try:
+        return read_whole(text, read_expression)
+    except TextFault:
+        raise NoExpression("no expression's text") from None
+
+
+def test_of(text):
+    """Give the test that the text is, or raise NoTest."""
+    try:
+        return read_whole(text, read_test)
+    except TextFault:
+        raise NoTest("no test's text") from None
+
+
+def read_patterns(reader):
+    return [pattern.content for pattern in read_listed(reader, read_pattern)]
+
+
+def facts_of(text):
+    """Give the facts that the text lists, or raise NoFacts."""
+    try:
+        patterns = read_whole(text, read_patterns)
+    except TextFault:
+        raise NoFacts("not values' texts with commas between neighbours") from None
+    if not all([is_fact(pattern) for pattern in patterns]):
+        raise NoFacts("one of them is no fact")
+    return patterns
+
+
+def read_word(reader):
+    return reader.expect("word").spelling
+
+
+def word_of(text):
+    """Give the bytes of the one word that the text is, or raise NoWord."""
+    try:
+        return read_whole(text, read_word)
+    except TextFault:
+        raise NoWord("not one word") from None

@@ -30,5 +30,29 @@ class NoPattern(ValueError):
     """A text is no pattern's text."""
 
 
+class NoExpression(ValueError):
+    """A text is no expression's text."""
+
+
+class NoTest(ValueError):
+    """A text is no test's text."""
+
+
+class NoRule(ValueError):
+    """The held program has no rule of a number."""
+
+
+class NoFacts(ValueError):
+    """A text is not one of facts with commas between neighbours."""
+
+
+class WrongFactCount(ValueError):
+    """There are not as many facts as a rule has heads."""
+
+
+class NoWord(ValueError):
+    """A text is not one word."""
+
+
 class UnknownCall(ValueError):
     """A list of calls names a call that is not there."""

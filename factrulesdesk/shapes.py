@@ -107,6 +107,13 @@ def heads_of(rule):
     return rule.kept + rule.taken
 
 
+def level_of(program, word):
+    for item in program.level_items:
+        if item.word.spelling == word:
+            return item.amount
+    return 0
+
+
 def pieces_of(shape):
     """Give what the shape is made of, one step down."""
     if isinstance(shape, Term):
@@ -140,6 +147,14 @@ def depth_of(value):
     return 1 + max([depth_of(argument) for argument in pieces_of(value)], default=0)
 
 
-def is_small_enough(value):
+def is_small_enough(shape):
     """Tell whether what is built like a value keeps to the bounds of one."""
-    return count_parts(value) <= MOST_PARTS and depth_of(value) <= GREATEST_DEPTH
+    return count_parts(shape) <= MOST_PARTS and depth_of(shape) <= GREATEST_DEPTH
+
+
+def is_value(pattern):
+    return not unknowns_in(pattern) and is_small_enough(pattern)
+
+
+def is_fact(pattern):
+    return isinstance(pattern, Term) and is_value(pattern)

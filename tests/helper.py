@@ -2,7 +2,7 @@
 
 from factrulesdesk.bench import answers
 
-CHECK, LOAD, FORM, VALUE, FIT = range(5)
+CHECK, LOAD, FORM, VALUE, FIT, WORK, TEST, USE, RULE, LEVEL = range(10)
 
 # The document's program P.
 GCD = (
@@ -16,12 +16,15 @@ def as_bytes(text):
     return list(text.encode("ascii")) if isinstance(text, str) else list(text)
 
 
-def call(number, *texts):
-    """Write one call as the interface tells."""
+def call(number, *parts):
+    """Write one call as the interface tells; a part is a whole number, or a text."""
     numbers = [number]
-    for text in texts:
-        row = as_bytes(text)
-        numbers += [len(row)] + row
+    for part in parts:
+        if isinstance(part, int):
+            numbers.append(part)
+        else:
+            row = as_bytes(part)
+            numbers += [len(row)] + row
     return numbers
 
 
@@ -68,6 +71,48 @@ def value(text):
 
 def fit(pattern, matched):
     return ask(call(FIT, pattern, matched))[0]
+
+
+def work(pattern, matched, expression):
+    return ask(call(WORK, pattern, matched, expression))[0]
+
+
+def holds(pattern, matched, test):
+    """Give what the call test answers."""
+    return ask(call(TEST, pattern, matched, test))[0]
+
+
+def on_loaded(program, *calls):
+    """Load the program, and give the answers of the calls that come behind."""
+    told = ask(call(LOAD, program), *calls)
+    if told[0][0] != 0:
+        raise AssertionError(f"{program!r} was not loaded: {told[0]} {check(program)}")
+    return told[1:]
+
+
+def use(program, number, facts):
+    return on_loaded(program, call(USE, number, facts))[0]
+
+
+def rule(program, number):
+    return on_loaded(program, call(RULE, number))[0]
+
+
+def level(program, word):
+    return on_loaded(program, call(LEVEL, word))[0]
+
+
+def worth(written):
+    """Write the answer of a work that comes to a value of this form."""
+    return [0] + as_bytes(written)
+
+
+def puts(*written):
+    """Write the answer of a use that puts values of these forms."""
+    numbers = [0, len(written)]
+    for one in written:
+        numbers += [len(one)] + as_bytes(one)
+    return numbers
 
 
 def binding(*pairs):

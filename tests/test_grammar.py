@@ -8,7 +8,7 @@ import ast
 import random
 import unittest
 
-from tests.helper import check, faults, form
+from tests.helper import check, faults, fit, form, holds, level, use, value, work
 
 GRAMMAR = {
     "program": ["", "program rule", "program level"],
@@ -29,6 +29,10 @@ GRAMMAR = {
     "product": ["signed", "product * signed", "product / signed", "product % signed"],
     "sum": ["product", "sum + product", "sum - product"],
     "test": ["sum = sum", "sum <> sum", "sum < sum", "sum <= sum"],
+    "value": ["n", "- n", "fact"],
+    "fact": ["w", "w ( value )", "w ( value , value )", "w ( value , value , value )"],
+    "facts": ["fact", "facts , fact"],
+    "word": ["w"],
 }
 RULES = {name: [tuple(side.split()) for side in sides] for name, sides in GRAMMAR.items()}
 TOKENS = sorted({part for sides in RULES.values() for side in sides for part in side if part not in RULES})
@@ -58,10 +62,10 @@ def closure(states, items, place):
                 waiting.append(item)
 
 
-def first_wrong(tokens):
+def first_wrong(tokens, whole="program"):
     """Give the index of the first token that can't stand there, their number at the end, or None."""
     states = []
-    closure(states, [("program", side, 0, 0) for side in RULES["program"]], 0)
+    closure(states, [(whole, side, 0, 0) for side in RULES[whole]], 0)
     for index, token in enumerate(tokens):
         moved = [
             (name, side, dot + 1, start)
@@ -71,7 +75,7 @@ def first_wrong(tokens):
             return index
         closure(states, moved, index + 1)
     ended = any(
-        name == "program" and dot == len(side) and start == 0 for name, side, dot, start in states[len(tokens)]
+        name == whole and dot == len(side) and start == 0 for name, side, dot, start in states[len(tokens)]
     )
     return None if ended else len(tokens)
 
@@ -155,6 +159,49 @@ class FirstWrongToken(unittest.TestCase):
                     self.assertEqual(told, faults(*expected), text)
                 else:
                     self.assertEqual([number for number in told[2::2] if number < 11], [], text)
+
+
+class WholeTexts(unittest.TestCase):
+    """What is a pattern's, a value's, an expression's, a test's text, and so on."""
+
+    def compare(self, whole, refusal, asked):
+        """Compare for random texts whether they are refused with whether the grammar has them."""
+        source = random.Random(whole)
+        counts = {True: 0, False: 0}
+        starts = [whole, whole, whole, "sum", "pattern", "test", "facts", "word", "value"]
+        for turn in range(700):
+            tokens = mutate(source, derive(source, source.choice(starts), 5))
+            if len(tokens) > 40 or tokens.count("(") > 5:
+                continue
+            text, places = spell(source, tokens)
+            is_one = first_wrong(tokens, whole) is None
+            counts[is_one] += 1
+            self.assertEqual(asked(text) != [refusal], is_one, text)
+        self.assertGreater(counts[True], 60)
+        self.assertGreater(counts[False], 60)
+
+    def test_expressions(self):
+        self.compare("sum", -6, lambda text: work("a", "a", text))
+
+    def test_tests(self):
+        self.compare("test", -7, lambda text: holds("a", "a", text))
+
+    def test_patterns(self):
+        self.compare("pattern", -5, lambda text: fit(text, "a"))
+        self.compare("pattern", -5, lambda text: work(text, "a", "a"))
+        self.compare("pattern", -5, lambda text: holds(text, "a", "1 = 1"))
+
+    def test_values(self):
+        self.compare("value", -4, value)
+        self.compare("value", -4, lambda text: fit("X", text))
+        self.compare("value", -4, lambda text: work("X", text, "1"))
+        self.compare("value", -4, lambda text: holds("X", text, "1 = 1"))
+
+    def test_facts(self):
+        self.compare("facts", -9, lambda text: use("rule a { take f; }", 0, text))
+
+    def test_words(self):
+        self.compare("word", -11, lambda text: level("", text))
 
 
 def random_expression(source, depth):
